@@ -1,4 +1,4 @@
-"""What a machine can see of ../shared/LANGUAGE.md, asked of every file of the package."""
+"""Some of the rules of ../shared/LANGUAGE.md, asked of every file of the package; the others are kept by reading."""
 
 import ast
 import builtins
