@@ -22,12 +22,17 @@ def ends_once(pieces):
     return len(lasts) > 0 and lasts == [0] * (len(lasts) - 1) + [1]
 
 
-def joined(pieces):
-    if not ends_once(pieces):
-        raise NoMessage("not a row of pieces of which just the last one has last 1")
+def letters_of(pieces):
     letters = []
     for piece in pieces:
         letters.extend(piece[1])
-    if len(letters) > MOST_MESSAGE_LETTERS:
-        raise NoMessage("the pieces have more letters than a message may have")
     return tuple(letters)
+
+
+def joined(pieces):
+    if not ends_once(pieces):
+        raise NoMessage("not a row of pieces of which just the last one has last 1")
+    message = letters_of(pieces)
+    if len(message) > MOST_MESSAGE_LETTERS:
+        raise NoMessage("the pieces have more letters than a message may have")
+    return message

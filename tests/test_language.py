@@ -41,6 +41,14 @@ EXPRESSIONS_OUT = (
 )
 DUNDERS = ("__init__", "__eq__", "__repr__", "__str__", "__len__")
 PYTHON_NAMES = dir(builtins)
+WALKED = ("zip", "enumerate", "reversed", "range")
+WALKED_METHODS = ("items", "keys", "values")
+WALKERS = ("list", "tuple", "dict", "sorted", "sum", "any", "all", "enumerate", "zip", "min", "max")
+KEYWORDS = {"sorted": ("key", "reverse"), "min": ("key", "default"), "max": ("key", "default"), "sum": ("start",),
+            "enumerate": ("start",), "zip": ("strict",)}
+OWN_REFUSALS = ("RoadError", "NoMessage", "NoCard", "NoStrip")
+VALUES_OF_OBJECTS = "count index title find get join lower upper split strip copy add".split()
+NAMES_OF_PYTHON_VALUES = set(dir(str) + dir(int) + dir(list) + dir(tuple) + dir(dict) + dir(set) + dir(bytes) + ["args"])
 
 
 def package_files():
@@ -174,6 +182,87 @@ class LanguageTest(unittest.TestCase):
             if node.id in PYTHON_NAMES:
                 self.assertIsInstance(node.ctx, ast.Load, where)
                 self.assertIn(node.id, OWN_NAMES, where)
+
+    def test_locals_hide_nothing(self):
+        for name, _, tree in parsed_files():
+            taken = [alias.name for row in tree.body if isinstance(row, ast.ImportFrom) for alias in row.names]
+            taken += [row.name for row in tree.body if isinstance(row, ast.ClassDef)]
+            for node in ast.walk(tree):
+                if isinstance(node, ast.Name) and isinstance(node.ctx, ast.Store):
+                    self.assertNotIn(node.id, taken + PYTHON_NAMES, name)
+                if isinstance(node, ast.arg):
+                    self.assertNotIn(node.arg, taken + PYTHON_NAMES, name)
+
+    def test_no_two_files_draw_from_one_another(self):
+        drawn = {}
+        for name, _, tree in parsed_files():
+            rows = [row for row in tree.body if isinstance(row, ast.ImportFrom)]
+            drawn[name[:-3]] = [row.module.split(".")[1] for row in rows]
+        while drawn:
+            free = [name for name in drawn if not set(drawn[name]) & set(drawn)]
+            self.assertNotEqual(free, [], drawn)
+            for name in free:
+                drawn.pop(name)
+
+    def test_methods_and_values_have_names_of_their_own(self):
+        methods, values = set(), set()
+        for where, node in nodes(ast.ClassDef):
+            own = [part.name for part in node.body if isinstance(part, ast.FunctionDef)]
+            self.assertEqual(sorted(own), sorted(set(own)), where)
+            methods |= set(own) - set(DUNDERS)
+        for where, node in nodes(ast.Attribute):
+            if isinstance(node.ctx, ast.Store):
+                self.assertIsInstance(node.value, ast.Name, where)
+                values.add(node.attr)
+            self.assertNotIn(node.attr, NAMES_OUT + ["format", "format_map"], where)
+            self.assertFalse(node.attr.startswith("_"), where)
+        self.assertEqual(methods & values, set())
+        self.assertEqual(methods & NAMES_OF_PYTHON_VALUES, set())
+        self.assertEqual(values & NAMES_OF_PYTHON_VALUES - set(VALUES_OF_OBJECTS), set())
+
+    def test_no_annotations(self):
+        for where, node in nodes((ast.FunctionDef, ast.arg)):
+            self.assertIsNone(node.returns if isinstance(node, ast.FunctionDef) else node.annotation, where)
+
+    def test_keywords(self):
+        for where, node in nodes(ast.Call):
+            allowed = KEYWORDS.get(node.func.id, ()) if isinstance(node.func, ast.Name) else ()
+            for keyword in node.keywords:
+                self.assertIn(keyword.arg, allowed, where)
+
+    def test_what_is_walked_is_walked_on_the_spot(self):
+        for name, _, tree in parsed_files():
+            spots = []
+            for node in ast.walk(tree):
+                if isinstance(node, (ast.For, ast.comprehension)):
+                    spots.append(node.iter)
+                if isinstance(node, ast.Call) and isinstance(node.func, ast.Name) and node.func.id in WALKERS:
+                    spots += node.args
+            for node in ast.walk(tree):
+                if isinstance(node, ast.Call):
+                    plain = isinstance(node.func, ast.Name) and node.func.id in WALKED
+                    of_dict = isinstance(node.func, ast.Attribute) and node.func.attr in WALKED_METHODS
+                    if plain or of_dict:
+                        self.assertIn(node, spots, f"{name}, line {node.lineno}")
+
+    def test_no_sets_and_no_powers(self):
+        for where, node in nodes((ast.Set, ast.Pow)):
+            self.fail(where)
+        for where, node in nodes(ast.Name):
+            self.assertNotIn(node.id, ("set", "frozenset"), where)
+
+    def test_errors_are_taken_by_their_own_names(self):
+        for where, node in nodes(ast.ExceptHandler):
+            self.assertIsInstance(node.type, ast.Name, where)
+            self.assertIn(node.type.id, OWN_REFUSALS, where)
+        for where, node in nodes(ast.Raise):
+            self.assertIsInstance(node.exc, ast.Call, where)
+            self.assertIn(node.exc.func.id, OWN_REFUSALS, where)
+
+    def test_init_gives_back_nothing(self):
+        for where, node in nodes(ast.FunctionDef):
+            if node.name == "__init__":
+                self.assertEqual([part for part in ast.walk(node) if isinstance(part, ast.Return)], [], where)
 
     def test_methods(self):
         own = [node.name for _, node in nodes(ast.FunctionDef)]
